@@ -1,0 +1,1 @@
+"""Wordsalike: the arithmetic of machine words, for all inputs."""
