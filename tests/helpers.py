@@ -63,6 +63,15 @@ def random_expression(rng, size):
     return (operation, random_expression(rng, first), random_expression(rng, size - 1 - first))
 
 
+def narrowest_text(width, words):
+    """The narrowest mask of some words, by the words of [54], as a text."""
+    signs = []
+    for place in range(width - 1, -1, -1):
+        bits = {word // 2 ** place % 2 for word in words}
+        signs.append("?" if len(bits) == 2 else str(min(bits)))
+    return "".join(signs)
+
+
 def some_random(seed):
     """A random source that is the same in each run."""
     return random.Random(seed)
