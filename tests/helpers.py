@@ -23,6 +23,23 @@ def odd_values():
     ]
 
 
+def changed_values(value):
+    """Values that come from a tuple if one part of it is changed, left out, doubled or put within a list."""
+    found = [list(value), (value,), (*value, 0), (*value, value), value[:-1], (0, *value), {"a": value}]
+    for at, part in enumerate(value):
+        others = [None, True, False, "", "x", [part], (part,), ()]
+        if isinstance(part, int):
+            others.extend([part + 1, part - 1, -part - 1, part + 2 ** 64, str(part)])
+        if isinstance(part, str):
+            others.extend([part + " ", part[:-1], 0])
+        if isinstance(part, tuple):
+            others.extend(changed_values(part) if part else [(0,)])
+        found.extend((*value[:at], other, *value[at + 1:]) for other in others)
+        found.append((*value[:at], *value[at + 1:]))
+        found.append((*value[:at], part, *value[at:]))
+    return [other for other in found if repr(other) != repr(value)]
+
+
 def chain(depth):
     """An expression with one node at each depth, so with as many nodes."""
     expression = ("name", 0)

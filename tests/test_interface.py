@@ -27,16 +27,54 @@ FUNCTIONS = {
         "least_wrong_signed": "divisor factor shift", "signed_dividends": "divisor width",
         "least_signed_shift": "divisor width",
     },
+    "divisible": {
+        "opposite_of": "number width", "residue_test": "divisor width remainder", "passes_test": "test width word",
+    },
+    "forms": {
+        "best_form": "divisor width", "form_value": "form word", "added_form": "divisor width",
+    },
+    "reduced": {
+        "is_polynomial": "value", "polynomial_value": "numbers word width", "falling_numbers": "numbers",
+        "power_numbers": "numbers", "place_bits": "place width", "place_limit": "width",
+        "reduced_form": "numbers width", "reduced_powers": "numbers width", "least_degree": "numbers width",
+        "polynomials_alike": "one other width", "polynomial_difference": "one other width",
+        "polynomial_through": "values width", "check_through": "values width value",
+    },
+    "permuting": {
+        "find_permutation": "numbers width", "check_permutation": "numbers width value",
+        "composed_form": "one other width", "repeated_form": "numbers times width", "inverse_form": "numbers width",
+        "cycle_bits": "numbers word width",
+    },
+    "lifting": {
+        "zero_classes": "numbers width", "count_zeros": "numbers width", "each_zero": "numbers width * start=0",
+        "zero_paper": "numbers width", "check_zeros": "numbers width value",
+    },
     "lines": {
         "least_on_line": "count modulus factor number", "count_on_line": "count modulus factor number limit",
         "line_mask": "stretch factor number",
     },
 }
-MASK_METHODS = (
-    "__init__", "read", "narrowest", "width", "least", "greatest", "extent", "__str__", "__eq__", "__contains__",
-    "__getitem__", "member_number", "next_member", "__and__", "__or__", "__xor__", "__invert__", "__add__", "__sub__",
-    "__neg__", "__lshift__", "__rshift__", "signed_right", "common_with", "union_with", "is_within",
-)
+# The generators among them.
+GENERATORS = {"wrong_dividends", "each_zero"}
+# The methods of each class, with their arguments behind self or cls; None for a property.
+CLASSES = {
+    "masks": ("Mask", {
+        "__init__": "width least greatest", "read": "value", "narrowest": "width words", "width": None, "least": None,
+        "greatest": None, "extent": None, "__str__": "", "__eq__": "other", "__contains__": "value",
+        "__getitem__": "index", "member_number": "value", "next_member": "value", "__and__": "other",
+        "__or__": "other", "__xor__": "other", "__invert__": "", "__add__": "other", "__sub__": "other",
+        "__neg__": "", "__lshift__": "shift", "__rshift__": "shift", "signed_right": "shift",
+        "common_with": "other", "union_with": "other", "is_within": "other",
+    }),
+    "forms": ("Divisor", {
+        "__init__": "value width", "width": None, "divisor_value": None, "__call__": "value", "__contains__": "value",
+        "__mul__": "other", "__eq__": "other", "__str__": "",
+    }),
+}
+
+
+def told_arguments(function):
+    return str(inspect.signature(function)).strip("()").replace(",", "")
 
 
 class InterfaceTests(unittest.TestCase):
@@ -46,18 +84,22 @@ class InterfaceTests(unittest.TestCase):
             for function, arguments in functions.items():
                 found = getattr(module, function)
                 self.assertEqual(found.__module__, module.__name__)
-                told = str(inspect.signature(found)).strip("()").replace(",", "")
-                self.assertEqual(told, arguments)
+                self.assertEqual(told_arguments(found), arguments)
+                self.assertIs(inspect.isgeneratorfunction(found), function in GENERATORS)
 
-    def test_mask(self):
-        module = importlib.import_module("wordsalike.masks")
-        self.assertEqual(module.Mask.__module__, "wordsalike.masks")
-        for method in MASK_METHODS:
-            self.assertIn(method, vars(module.Mask))
-
-    def test_generators(self):
-        module = importlib.import_module("wordsalike.divisors")
-        self.assertTrue(inspect.isgeneratorfunction(module.wrong_dividends))
+    def test_classes(self):
+        for name, (title, methods) in CLASSES.items():
+            module = importlib.import_module(f"wordsalike.{name}")
+            found = getattr(module, title)
+            self.assertEqual(found.__module__, module.__name__)
+            for method, arguments in methods.items():
+                own = vars(found)[method]
+                if arguments is None:
+                    self.assertIsInstance(own, property)
+                    self.assertIsNone(own.fset)
+                else:
+                    own = own.__func__ if isinstance(own, classmethod) else own
+                    self.assertEqual(told_arguments(own).split()[1:], arguments.split())
 
 
 if __name__ == "__main__":

@@ -18,7 +18,7 @@ def _multiplied(number, kind):
     return number + 1 if kind == "raised" else number
 
 
-def _told_quotient(factor, shift, number, kind):
+def told_quotient(factor, shift, number, kind):
     """The quotient that a factor and a shift tell."""
     return factor * _multiplied(number, kind) >> shift
 
@@ -86,7 +86,7 @@ def is_right(divisor, top, value, *, kind="plain"):
     if not is_integer_within(shift, 0, GREATEST_SHIFT):
         return False
     numbers = two_dividends(divisor, top, kind=kind)
-    return all([_told_quotient(factor, shift, x, kind) == x // divisor for x in numbers])
+    return all([told_quotient(factor, shift, x, kind) == x // divisor for x in numbers])
 
 
 def least_shift(divisor, top, *, kind="plain"):
@@ -121,8 +121,8 @@ def shift_paper_holds(divisor, top, value, *, kind="plain"):
         return False
     if not is_integer_within(one, 0, top) or not is_integer_within(other, 0, top):
         return False
-    too_low = _told_quotient(last, shift - 1, one, kind) < one // divisor
-    return too_low and _told_quotient(last + 1, shift - 1, other, kind) > other // divisor
+    too_low = told_quotient(last, shift - 1, one, kind) < one // divisor
+    return too_low and told_quotient(last + 1, shift - 1, other, kind) > other // divisor
 
 
 def _count_below(divisor, top, factor, bound, step):

@@ -38,3 +38,8 @@ def signed_value(word, width):
     if word >> (width - 1) == 0:
         return word
     return word - (1 << width)
+
+
+def twos_in(number):
+    """How often 2 divides an integer other than 0."""
+    return (number & -number).bit_length() - 1

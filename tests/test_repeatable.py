@@ -1,0 +1,59 @@
+"""[3] No argument is modified, and the same call returns the same result."""
+
+import copy
+import unittest
+
+from wordsalike.divisible import opposite_of, passes_test, residue_test
+from wordsalike.divisors import is_right, shift_paper, shift_paper_holds, two_dividends, wrong_dividends
+from wordsalike.expressions import expression_fault
+from wordsalike.forms import Divisor, added_form, best_form, form_value
+from wordsalike.lifting import check_zeros, count_zeros, each_zero, zero_classes, zero_paper
+from wordsalike.permuting import (check_permutation, composed_form, cycle_bits, find_permutation, inverse_form,
+                                  repeated_form)
+from wordsalike.reduced import (check_through, falling_numbers, is_polynomial, least_degree, polynomial_difference,
+                                polynomial_through, polynomial_value, power_numbers, reduced_form, reduced_powers)
+
+NUMBERS = (1, -3, 10 ** 30 - 1, 0, 7)
+PERMUTATION = (3, 5, 2, 4)
+LISTS = ["form", [0, 1, [2]], {"a": [0, {"b": 1}]}]
+CALLS = [
+    (expression_fault, (LISTS,)), (is_right, (7, 255, LISTS)), (shift_paper_holds, (7, 255, LISTS)),
+    (shift_paper, (7, 255)), (two_dividends, (7, 255)),
+    (best_form, (7, 8)), (form_value, (("plain", 3, 1), 200)), (added_form, (7, 8)), (opposite_of, (7, 64)),
+    (residue_test, (7, 8, 3)), (passes_test, ((3, 183, 0, 36), 8, 17)), (is_polynomial, (LISTS,)),
+    (is_polynomial, (NUMBERS,)), (polynomial_value, (NUMBERS, 5, 64)), (falling_numbers, (NUMBERS,)),
+    (power_numbers, (NUMBERS,)), (reduced_form, (NUMBERS, 64)), (reduced_powers, (NUMBERS, 64)),
+    (least_degree, (NUMBERS, 64)), (polynomial_difference, (NUMBERS, PERMUTATION, 64)),
+    (polynomial_through, ((5, 7, 9), 64)), (check_through, ((5, 7), 64, LISTS)),
+    (check_through, ((5, 7), 64, ["form", [5, 2]])), (find_permutation, (NUMBERS, 64)),
+    (check_permutation, (NUMBERS, 64, LISTS)), (composed_form, (NUMBERS, PERMUTATION, 64)),
+    (repeated_form, (PERMUTATION, 5, 64)), (inverse_form, (PERMUTATION, 64)), (cycle_bits, (PERMUTATION, 5, 20)),
+    (zero_classes, (NUMBERS, 64)), (count_zeros, (NUMBERS, 64)), (zero_paper, (NUMBERS, 64)),
+    (check_zeros, (NUMBERS, 64, LISTS)), (check_zeros, (NUMBERS, 64, [[0, 0, "all"]])),
+]
+
+
+class RepeatableTests(unittest.TestCase):
+    def test_calls(self):
+        for function, arguments in CALLS:
+            before = copy.deepcopy(arguments)
+            first = function(*arguments)
+            self.assertEqual(arguments, before)
+            self.assertEqual((type(function(*arguments)), function(*arguments)), (type(first), first))
+            self.assertEqual(function(*before), first)
+
+    def test_generators(self):
+        for function, arguments, start in ((wrong_dividends, (7, 293, 11), 5), (each_zero, ((0, 0, 1), 64), 5)):
+            one, other = function(*arguments, start=start), function(*arguments, start=start)
+            found = [(next(one), next(other)) for _ in range(5)]
+            self.assertTrue(all(first == second for first, second in found))
+
+    def test_divisors_do_not_change(self):
+        one, other = Divisor(7, 8), Divisor(5, 8)
+        for _ in range(2):
+            self.assertEqual((str(one * other), one(100), 14 in one, str(one), str(other)),
+                             ("35 at width 8", 14, True, "7 at width 8", "5 at width 8"))
+
+
+if __name__ == "__main__":
+    unittest.main()
