@@ -49,6 +49,19 @@ FUNCTIONS = {
         "zero_classes": "numbers width", "count_zeros": "numbers width", "each_zero": "numbers width * start=0",
         "zero_paper": "numbers width", "check_zeros": "numbers width value",
     },
+    "mixes": {
+        "mix_form": "expression width", "mixes_alike": "one other width", "bit_difference": "one other width",
+        "least_difference": "one other width", "low_agreement": "one other width",
+        "name_matters": "expression width name",
+    },
+    "tables": {
+        "plain_table": "expression width", "set_numbers": "expression width", "mix_of_sets": "numbers width",
+        "straight_numbers": "expression width", "bitwise_rows": "expression width",
+    },
+    "turning": {
+        "turn_paper": "expression width name", "check_turning": "expression width name value",
+        "solve_name": "expression width words name word",
+    },
     "lines": {
         "least_on_line": "count modulus factor number", "count_on_line": "count modulus factor number limit",
         "line_mask": "stretch factor number",
@@ -65,6 +78,12 @@ CLASSES = {
         "__or__": "other", "__xor__": "other", "__invert__": "", "__add__": "other", "__sub__": "other",
         "__neg__": "", "__lshift__": "shift", "__rshift__": "shift", "signed_right": "shift",
         "common_with": "other", "union_with": "other", "is_within": "other",
+    }),
+    "polynomials": ("Polynomial", {
+        "__init__": "numbers width", "width": None, "rows": None, "degree": None, "inverse": "", "__add__": "other",
+        "__sub__": "other", "__mul__": "other", "__neg__": "", "__rshift__": "other", "__pow__": "times",
+        "__call__": "word", "__getitem__": "place", "__contains__": "word", "__len__": "", "__bool__": "",
+        "__eq__": "other", "__str__": "",
     }),
     "forms": ("Divisor", {
         "__init__": "value width", "width": None, "divisor_value": None, "__call__": "value", "__contains__": "value",

@@ -312,6 +312,18 @@ class ThroughTests(unittest.TestCase):
                     self.assertIs(check_through(values, width, ("none", index)), index in wrong)
                 self.assertIs(check_through(values, width, ("form", (0,) * place_limit(width))), not any(values))
 
+    def test_more_values_than_a_form_has_numbers(self):
+        for width in (3, 64):
+            limit = place_limit(width)
+            values = tuple(slow_value((1, 2, 3), word, width) for word in range(limit + 3))
+            found = polynomial_through(values, width)
+            self.assertEqual(found, ("form", reduced_form((1, 2, 3), width)))
+            self.assertIs(check_through(values, width, found), True)
+            wrong = (*values[:-1], (values[-1] + 1) % 2 ** width)
+            self.assertEqual(polynomial_through(wrong, width), ("none", limit + 2))
+            self.assertIs(check_through(wrong, width, found), False)
+            self.assertIs(check_through(wrong, width, ("none", limit + 2)), True)
+
     def test_all_forms_are_checked(self):
         for width in (1, 2, 3):
             forms = list(all_reduced_forms(width))

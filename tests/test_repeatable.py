@@ -8,13 +8,20 @@ from wordsalike.divisors import is_right, shift_paper, shift_paper_holds, two_di
 from wordsalike.expressions import expression_fault
 from wordsalike.forms import Divisor, added_form, best_form, form_value
 from wordsalike.lifting import check_zeros, count_zeros, each_zero, zero_classes, zero_paper
+from wordsalike.mixes import bit_difference, least_difference, low_agreement, mix_form, mixes_alike, name_matters
 from wordsalike.permuting import (check_permutation, composed_form, cycle_bits, find_permutation, inverse_form,
                                   repeated_form)
 from wordsalike.reduced import (check_through, falling_numbers, is_polynomial, least_degree, polynomial_difference,
                                 polynomial_through, polynomial_value, power_numbers, reduced_form, reduced_powers)
+from wordsalike.polynomials import Polynomial
+from wordsalike.tables import bitwise_rows, mix_of_sets, plain_table, set_numbers, straight_numbers
+from wordsalike.texts import parse_expression
+from wordsalike.turning import check_turning, solve_name, turn_paper
 
 NUMBERS = (1, -3, 10 ** 30 - 1, 0, 7)
 PERMUTATION = (3, 5, 2, 4)
+MIX = parse_expression("a + 2 * (a & b) - 5")
+OTHER_MIX = parse_expression("a ^ (b & 12)")
 LISTS = ["form", [0, 1, [2]], {"a": [0, {"b": 1}]}]
 CALLS = [
     (expression_fault, (LISTS,)), (is_right, (7, 255, LISTS)), (shift_paper_holds, (7, 255, LISTS)),
@@ -30,6 +37,12 @@ CALLS = [
     (repeated_form, (PERMUTATION, 5, 64)), (inverse_form, (PERMUTATION, 64)), (cycle_bits, (PERMUTATION, 5, 20)),
     (zero_classes, (NUMBERS, 64)), (count_zeros, (NUMBERS, 64)), (zero_paper, (NUMBERS, 64)),
     (check_zeros, (NUMBERS, 64, LISTS)), (check_zeros, (NUMBERS, 64, [[0, 0, "all"]])),
+    (mix_form, (MIX, 8)), (mixes_alike, (MIX, OTHER_MIX, 8)), (bit_difference, (MIX, OTHER_MIX, 8)),
+    (least_difference, (MIX, OTHER_MIX, 8)), (low_agreement, (MIX, OTHER_MIX, 8)), (name_matters, (MIX, 8, 1)),
+    (plain_table, (MIX, 8)), (set_numbers, (MIX, 8)), (mix_of_sets, (tuple(range(-8, 8)), 8)),
+    (straight_numbers, (MIX, 8)), (bitwise_rows, (OTHER_MIX, 8)), (turn_paper, (MIX, 8, 0)), (turn_paper, (MIX, 8, 1)),
+    (check_turning, (MIX, 8, 0, LISTS)), (check_turning, (MIX, 8, 1, ["same", [0, 0, 0, 0], [0, 1, 0, 0]])),
+    (solve_name, (MIX, 8, (0, 5, 0, 0), 0, 77)), (str, (Polynomial(NUMBERS, 8),)), (len, (Polynomial(NUMBERS, 8),)),
 ]
 
 

@@ -4,7 +4,7 @@ import unittest
 
 from tests.helpers import odd_values
 from wordsalike import bounds
-from wordsalike.words import is_integer, is_width, is_word, signed_value, to_word, twos_in
+from wordsalike.words import is_input, is_integer, is_width, is_word, signed_value, to_word, twos_in
 
 
 class BoundTests(unittest.TestCase):
@@ -48,6 +48,13 @@ class WordTests(unittest.TestCase):
         self.assertEqual([word for word in range(-2, 12) if is_word(word, 3)], list(range(8)))
         self.assertTrue(is_word(2 ** 64 - 1, 64))
         self.assertFalse(is_word(1, 0) or is_word(2, 1) or is_word(True, 1))
+
+    def test_inputs(self):
+        for value in [*odd_values(), (0, 0, 0), (0,) * 5, [0] * 4, (0, 0, 0, 8), (0, -1, 0, 0), (0, 0, True, 0)]:
+            self.assertIs(is_input(value, 3), False)
+        for value in ((0, 0, 0, 0), (7, 0, 7, 1)):
+            self.assertIs(is_input(value, 3), True)
+        self.assertIs(is_input((2 ** 64 - 1,) * 4, 64), True)
 
     def test_twos_in(self):
         self.assertEqual([twos_in(number) for number in (1, 2, 3, 4, 6, 8, 12, 96)], [0, 1, 0, 2, 1, 3, 2, 5])

@@ -2,6 +2,9 @@
 
 from wordsalike.bounds import WIDTH
 
+# An input has a word for each of so many names.
+NAMES = 4
+
 
 def is_integer(value):
     """Whether any value is an int; True and False are none."""
@@ -26,6 +29,11 @@ def greatest_word(width):
 def is_word(value, width):
     """Whether any value is a word of a width."""
     return is_integer_within(value, 0, greatest_word(width))
+
+
+def is_input(value, width):
+    """Whether any value is an input: a tuple with a word for each name."""
+    return isinstance(value, tuple) and len(value) == NAMES and all([is_word(word, width) for word in value])
 
 
 def to_word(number, width):
