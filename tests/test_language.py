@@ -258,6 +258,14 @@ class ClassTests(unittest.TestCase):
             own = {name for name in methods | stored if not name.startswith("__")}
             self.assertLessEqual(own & free, {"count", "index", "add", "copy"}, (path, node.name))
 
+    def test_some_methods_are_one_return(self):
+        for path, node in self.classes():
+            for part in node.body:
+                if isinstance(part, ast.FunctionDef) and part.name in ("__str__", "__len__", "__bool__", "__eq__"):
+                    self.assertEqual([type(row) for row in part.body], [ast.Return], (path, part.name))
+                if isinstance(part, ast.FunctionDef) and part.name == "__iter__":
+                    self.assertEqual([type(row) for row in part.body], [ast.Raise], path)
+
     def test_operators_change_nothing(self):
         for path, node in self.classes():
             for part in node.body:

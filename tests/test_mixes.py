@@ -9,7 +9,7 @@ from tests.slow_mixes import (ALL_OPERATIONS, all_values, extreme_input, inputs_
 from wordsalike.errors import NotMix
 from wordsalike.expressions import names_used, node_count, value_at
 from wordsalike.mixes import bit_difference, least_difference, low_agreement, mix_form, mixes_alike, name_matters
-from wordsalike.mixforms import form_value
+from wordsalike.mixforms import mix_value
 from wordsalike.texts import parse_expression
 
 A, B, C, D = [("name", name) for name in range(4)]
@@ -108,7 +108,7 @@ class FormTests(unittest.TestCase):
                     inputs.append((2 ** width - 1,) * 4)
                     self.check_values(expression, width, form, inputs)
                     for words in inputs:
-                        self.assertEqual(form_value(form, width, words), value_at(expression, width, words))
+                        self.assertEqual(mix_value(form, width, words), value_at(expression, width, words))
                     for row, bits in zip(form[1], range(width, 0, -1)):
                         self.assertEqual(len(row), 15)
                         self.assertTrue(all(0 <= n < 2 ** bits for n in row))

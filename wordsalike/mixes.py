@@ -2,7 +2,7 @@
 
 from wordsalike.errors import NotMix
 from wordsalike.expressions import parts_of
-from wordsalike.mixforms import (PATTERNS, form_value, is_zero, matters, node_form, number_at, pattern_input,
+from wordsalike.mixforms import (PATTERNS, is_zero, matters, mix_value, node_form, number_at, pattern_input,
                                  pattern_of, sum_form)
 from wordsalike.words import NAMES, twos_in
 
@@ -61,7 +61,7 @@ def _least_word(form, width, words):
     There is such a word. The names up to the last of the words are in no multiple of step.
     """
     step = 1 << len(words)
-    if form_value(form, width, words) != 0 or len(_moved_bits(form[1], words, 2 * step)) > 0:
+    if mix_value(form, width, words) != 0 or len(_moved_bits(form[1], words, 2 * step)) > 0:
         return 0
     # Without the next name the value is always 0: so a bit that makes a difference does so alone.
     return 1 << _moved_bits(form[1], words, step)[0]

@@ -30,7 +30,7 @@ def pattern_input(pattern, word):
     return tuple([word if contains_name(pattern, name) else 0 for name in range(NAMES)])
 
 
-def form_value(form, width, words):
+def mix_value(form, width, words):
     """The value for an input; names without a word have the word 0."""
     first, rows = form
     numbers = [number_at(rows[bit], pattern_of(words, bit)) << bit for bit in range(width)]

@@ -103,8 +103,7 @@ class Polynomial:
         return isinstance(other, Polynomial) and self._width == other._width and self._rows == other._rows
 
     def __str__(self):
-        numbers = " ".join([str(number) for number in self._rows])
-        return f"{self._width} bits: {numbers}"
+        return " ".join([f"{self._width} bits:", *[str(number) for number in self._rows]])
 
 
 def _powers_of(falling, width):

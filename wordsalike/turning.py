@@ -3,7 +3,7 @@
 from wordsalike.errors import NotReversible
 from wordsalike.expressions import value_at
 from wordsalike.mixes import mix_form
-from wordsalike.mixforms import form_value, name_turns, pattern_input
+from wordsalike.mixforms import mix_value, name_turns, pattern_input
 from wordsalike.words import NAMES, is_input
 
 
@@ -28,7 +28,7 @@ def _led_to(form, width, words, name, value, begin):
     bit of the value. The bits of the value below begin are settled.
     """
     for bit in range(begin, width):
-        if (form_value(form, width, words) ^ value) >> bit & 1 == 1:
+        if (mix_value(form, width, words) ^ value) >> bit & 1 == 1:
             words = _with_word(words, name, words[name] | 1 << bit)
     return words
 
@@ -43,7 +43,7 @@ def turn_paper(expression, width, name):
     one = pattern_input(pattern, 1 << bit)
     # Setting this bit leaves the bit of the value as it is; the bits above can make up for the rest.
     turned = _with_word(one, name, 1 << bit)
-    other = _led_to(form, width, turned, name, form_value(form, width, one), bit + 1)
+    other = _led_to(form, width, turned, name, mix_value(form, width, one), bit + 1)
     return ("same", one, other)
 
 
