@@ -14,7 +14,7 @@ FOLDER = pathlib.Path(__file__).resolve().parent.parent / "wordsalike"
 BUILTINS = {
     "len", "range", "enumerate", "zip", "min", "max", "sum", "abs", "sorted", "reversed", "int", "str", "bool", "list",
     "tuple", "dict", "set", "isinstance", "ord", "repr", "any", "all", "divmod", "ValueError", "TypeError",
-    "LookupError", "NotImplemented", "property", "staticmethod", "classmethod",
+    "LookupError", "NotImplemented", "property", "staticmethod", "classmethod", "super",
 }
 METHODS = {
     "append", "clear", "copy", "count", "endswith", "extend", "find", "get", "index", "insert", "isalnum", "isalpha",
@@ -37,8 +37,9 @@ UNUSED_WORDS = re.compile(
     r"|dataclass|overload|contextmanager|\(type\)|Meta|metaclass=")
 STATEMENTS = (
     ast.Assign, ast.AugAssign, ast.If, ast.While, ast.For, ast.Return, ast.Break, ast.Continue, ast.Raise, ast.Expr,
-    ast.FunctionDef, ast.ClassDef, ast.ImportFrom, ast.Delete, ast.Assert, ast.Pass,
+    ast.FunctionDef, ast.ClassDef, ast.ImportFrom, ast.Delete, ast.Assert, ast.Pass, ast.Try,
 )
+CHANGING = {"append", "clear", "extend", "insert", "pop", "remove", "reverse", "setdefault", "sort", "update"}
 EXPRESSIONS_LEFT_OUT = (
     ast.Lambda, ast.GeneratorExp, ast.SetComp, ast.Set, ast.NamedExpr, ast.Await, ast.YieldFrom, ast.Div, ast.MatMult,
 )
@@ -194,7 +195,9 @@ class CodeTests(unittest.TestCase):
             for function in functions_of(tree):
                 self.assertIsNone(function.returns)
                 self.assertTrue(all(argument.annotation is None for argument in function.args.args))
-                self.assertIsNone(function.args.vararg or function.args.kwarg)
+                self.assertIsNone(function.args.kwarg)
+                if function.args.vararg is not None:
+                    self.assertEqual((path.stem, function.name), ("stores", "__init__"))
                 defaults = [*function.args.defaults, *[d for d in function.args.kw_defaults if d is not None]]
                 self.assertTrue(all(isinstance(default, ast.Constant) for default in defaults))
                 inner = [node for node in ast.walk(function) if isinstance(node, ast.FunctionDef)]
@@ -242,11 +245,15 @@ class ClassTests(unittest.TestCase):
                     known.add(part.name)
                 if isinstance(part, ast.Attribute) and isinstance(part.ctx, ast.Store):
                     known.add(part.attr)
+            # Class values.
+            known |= {part.targets[0].id for part in node.body if isinstance(part, ast.Assign)}
         for path, tree in trees().items():
             for part in ast.walk(tree):
                 if isinstance(part, ast.Attribute):
                     self.assertIn(part.attr, known, (path, part.lineno))
-                    self.assertFalse(part.attr.startswith("__"), (path, part.lineno))
+                    above = isinstance(part.value, ast.Call) and ast.unparse(part.value) == "super()"
+                    self.assertEqual(part.attr.startswith("__"), above, (path, part.lineno))
+                    self.assertTrue(not above or part.attr == "__init__", (path, part.lineno))
 
     def test_no_name_is_a_method_and_an_attribute(self):
         for path, node in self.classes():
@@ -274,6 +281,116 @@ class ClassTests(unittest.TestCase):
                         self.assertNotIsInstance(inner, ast.AugAssign, (path, part.name))
                         if isinstance(inner, (ast.Attribute, ast.Subscript)):
                             self.assertIsInstance(inner.ctx, ast.Load, (path, part.name))
+
+    def test_no_other_thing_has_the_name_of_a_property_or_a_generator(self):
+        properties, methods, stored, yielding = set(), [], set(), []
+        for path, tree in trees().items():
+            for node in ast.walk(tree):
+                if isinstance(node, ast.FunctionDef):
+                    methods.append(node.name)
+                    if any(getattr(told, "id", "") == "property" for told in node.decorator_list):
+                        properties.add(node.name)
+                    if any(isinstance(part, ast.Yield) for part in ast.walk(node)):
+                        yielding.append(node.name)
+                if isinstance(node, ast.Attribute) and isinstance(node.ctx, ast.Store):
+                    stored.add(node.attr)
+        self.assertFalse(properties & stored)
+        self.assertEqual([methods.count(name) for name in yielding], [1] * len(yielding))
+        self.assertFalse(set(yielding) & stored)
+        plain = [name for path, tree in trees().items() for node in ast.walk(tree) if isinstance(node, ast.FunctionDef)
+                 and not node.decorator_list for name in [node.name]]
+        self.assertFalse(properties & set(plain))
+
+
+class PureTests(unittest.TestCase):
+    """Operators, properties and the like change nothing, and neither does what they call."""
+
+    def reached(self):
+        """The functions and methods that run when an operator, a property and the like does."""
+        named = {}
+        for path, tree in trees().items():
+            for owner in [tree, *[node for node in tree.body if isinstance(node, ast.ClassDef)]]:
+                for node in owner.body:
+                    if isinstance(node, ast.FunctionDef):
+                        named.setdefault(node.name, []).append((path, node))
+        waiting = [found for name in named for found in named[name] if name in SPECIAL - {"__init__", "__call__", "__iter__"}
+                   or any(getattr(told, "id", "") == "property" for told in found[1].decorator_list)]
+        seen = []
+        while waiting:
+            path, function = waiting.pop()
+            if function in [other for _, other in seen]:
+                continue
+            seen.append((path, function))
+            for node in ast.walk(function):
+                if isinstance(node, ast.Call):
+                    name = node.func.id if isinstance(node.func, ast.Name) else getattr(node.func, "attr", "")
+                    waiting.extend(named.get(name, []))
+        return seen
+
+    def own_lists(self, function):
+        """The local names that are assigned nothing but new lists or dicts."""
+        found, others = set(), set(parameters_of(function))
+        for node in ast.walk(function):
+            if isinstance(node, ast.Assign):
+                for target in node.targets:
+                    if isinstance(target, ast.Name):
+                        called = isinstance(node.value, ast.Call) and isinstance(node.value.func, ast.Name)
+                        fresh = isinstance(node.value, (ast.List, ast.ListComp, ast.Dict))
+                        fresh = fresh or called and node.value.func.id in ("list", "dict", "sorted")
+                        (found if fresh else others).add(target.id)
+        return found - others
+
+    def test_they_change_nothing(self):
+        reached = self.reached()
+        self.assertGreater(len(reached), 100)
+        for path, function in reached:
+            own = self.own_lists(function)
+            for node in ast.walk(function):
+                place = (path, function.name, getattr(node, "lineno", 0))
+                if isinstance(node, ast.Attribute):
+                    self.assertIsInstance(node.ctx, ast.Load, place)
+                if isinstance(node, ast.Subscript) and not isinstance(node.ctx, ast.Load):
+                    self.assertIn(getattr(node.value, "id", ""), own, place)
+                if isinstance(node, ast.AugAssign):
+                    self.assertIsInstance(node.target, ast.Name, place)
+                    self.assertIsInstance(node.value, ast.Constant, place)
+                if isinstance(node, ast.Call) and isinstance(node.func, ast.Attribute) and node.func.attr in CHANGING:
+                    self.assertIn(getattr(node.func.value, "id", ""), own, place)
+                if isinstance(node, ast.Call) and isinstance(node.func, ast.Name):
+                    self.assertNotIn(node.func.id, parameters_of(function), place)
+
+
+class ErrorTests(unittest.TestCase):
+    def test_only_own_errors_are_caught(self):
+        own = {node.name for node in trees()[FOLDER / "errors.py"].body if isinstance(node, ast.ClassDef)}
+        for path, tree in trees().items():
+            for node in ast.walk(tree):
+                if isinstance(node, ast.ExceptHandler):
+                    told = node.type.elts if isinstance(node.type, ast.Tuple) else [node.type]
+                    self.assertLessEqual({kind.id for kind in told}, own, path)
+                    self.assertIsNone(node.name)
+
+    def test_finally(self):
+        for path, tree in trees().items():
+            for node in ast.walk(tree):
+                if isinstance(node, ast.Try) and node.finalbody:
+                    self.assertEqual(path.stem, "stores")
+                    for part in [inner for row in node.finalbody for inner in ast.walk(row)]:
+                        self.assertNotIsInstance(part, (ast.BinOp, ast.Return, ast.Raise, ast.Subscript, ast.AugAssign), path)
+                        if isinstance(part, ast.Call):
+                            self.assertEqual(part.func.attr, "append")
+                        if isinstance(part, ast.If):
+                            self.assertIsInstance(part.test.ops[0], ast.Is)
+
+    def test_texts_with_values_stand_on_one_line(self):
+        for path, tree in trees().items():
+            for node in ast.walk(tree):
+                if isinstance(node, ast.JoinedStr):
+                    self.assertEqual(node.lineno, node.end_lineno, path)
+                    for part in ast.walk(node):
+                        if isinstance(part, ast.FormattedValue):
+                            inside = [inner for inner in ast.walk(part.value) if isinstance(inner, ast.Constant)]
+                            self.assertFalse([inner for inner in inside if isinstance(inner.value, str)], path)
 
 
 if __name__ == "__main__":

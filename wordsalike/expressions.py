@@ -85,7 +85,7 @@ def expression_fault(value):
     return fault
 
 
-def _value_by_number(operation, word, number, width):
+def value_by_number(operation, word, number, width):
     """The value of an operation with one part and a number."""
     if operation == "left":
         return to_word(word << number, width)
@@ -117,7 +117,7 @@ def _number_of_two(operation, x, y):
     return int(x == y)
 
 
-def _value_by_parts(operation, values, width):
+def value_by_parts(operation, values, width):
     """The value of an operation whose parts have these values and that has no number."""
     if operation == "not":
         return to_word(-1 - values[0], width)
@@ -137,8 +137,8 @@ def value_at(expression, width, words):
         return to_word(expression[1], width)
     values = [value_at(part, width, words) for part in parts_of(expression)]
     if operation in NUMBER_BOUNDS:
-        return _value_by_number(operation, values[0], expression[2], width)
-    return _value_by_parts(operation, values, width)
+        return value_by_number(operation, values[0], expression[2], width)
+    return value_by_parts(operation, values, width)
 
 
 def _names_within(expression):

@@ -9,6 +9,8 @@ from wordsalike.expressions import NUMBER_BOUNDS
 from wordsalike.signs import COMPARING_GROUP, LETTERS, PICK_GROUP, PREFIX_GROUP, PREFIXES, SIGNS
 
 DIGITS = "0123456789"
+# No integer in a text of a program, or in a command, has more digits.
+MOST_DIGITS = 20
 # The groups of what waits across other signs: the third part of a pick takes in all signs that
 # follow, and only a ) or a : ends what is within parentheses or between ? and :.
 LAST_PART_GROUP = 10
@@ -20,15 +22,22 @@ def is_digit(character):
     return character != "" and character in DIGITS
 
 
+def is_decimal(text):
+    """Whether a text is an integer from 0 on as it is written in programs."""
+    if not 1 <= len(text) <= MOST_DIGITS or (text[0] == "0" and text != "0"):
+        return False
+    return all([is_digit(character) for character in text])
+
+
 class Waiting:
     """A sign that waits for the part behind it, with the parts in front of it."""
 
-    def __init__(self, sign, operation, group, first=None, second=None):
+    def __init__(self, sign, operation, group, front=None, middle=None):
         self.sign = sign
         self.operation = operation
         self.group = group
-        self.first = first
-        self.second = second
+        self.front = front
+        self.middle = middle
 
 
 def joined(operation, parts):
@@ -138,7 +147,7 @@ class Reader:
     def join_last(self):
         """Joins the part to what waits for it last."""
         waiting = self.waiting.pop()
-        parts = [part for part in (waiting.first, waiting.second, self.part) if part is not None]
+        parts = [part for part in (waiting.front, waiting.middle, self.part) if part is not None]
         self.part = joined(waiting.operation, parts)
 
     def join_within(self, group):
@@ -155,7 +164,7 @@ class Reader:
         elif sign == ":":
             self.join_within(LAST_PART_GROUP)
             pick = self.waiting.pop()
-            self.waiting.append(Waiting(":", "pick", LAST_PART_GROUP, pick.first, self.part))
+            self.waiting.append(Waiting(":", "pick", LAST_PART_GROUP, pick.front, self.part))
             self.read_operand()
         else:
             self.follow_operator(sign)

@@ -1,13 +1,13 @@
 """The rows of programs."""
 
-from wordsalike.words import greatest_word, is_integer_within
+from wordsalike.words import greatest_word, is_integer, is_integer_within
 
 # The values before the first row: the words of an input.
 INPUTS = 4
 # A program has at most so many outs.
 MOST_OUTS = 4
 
-# Each operation, with the number of its operands.
+# Each operation, in the order of their classes, with the number of its operands.
 OPERAND_COUNTS = {
     "number": 0,
     "not": 1,
@@ -29,6 +29,9 @@ OPERAND_COUNTS = {
     "pick": 3,
 }
 
+# The operations whose operands may be exchanged.
+EVEN = ("add", "mul", "and", "or", "xor", "same")
+
 
 def row_bounds(operation, width):
     """A tuple with the bounds of each number that stands behind the operands."""
@@ -44,19 +47,57 @@ def row_bounds(operation, width):
     return ()
 
 
-def is_row(value, width, many):
-    """Whether any value is a row, at a place with so many values before it."""
+def operands_of(row):
+    """The operands of a row."""
+    return row[1:1 + OPERAND_COUNTS[row[0]]]
+
+
+def numbers_of(row):
+    """The further numbers of a row, behind its operands."""
+    return row[1 + OPERAND_COUNTS[row[0]]:]
+
+
+def with_operands(row, operands):
+    """The row with others in the place of its operands."""
+    return (row[0], *operands, *numbers_of(row))
+
+
+def are_same_rows(one, other):
+    """Whether two rows are equal, or even with their operands exchanged."""
+    if one[0] in EVEN and one[0] == other[0]:
+        return sorted(list(operands_of(one))) == sorted(list(operands_of(other)))
+    return one == other
+
+
+def rows_by_value(rows):
+    """A list with the row of each value, None for the inputs."""
+    return [*[None for _ in range(INPUTS)], *rows]
+
+
+def is_row_form(value, width):
+    """Whether any value is a row if its operands may be any integers."""
     if not isinstance(value, tuple) or len(value) == 0:
         return False
     operation = value[0]
     # A list or a dict must not be looked up: it cannot be a key.
     if not isinstance(operation, str) or operation not in OPERAND_COUNTS:
         return False
-    bounds = [(0, many - 1)] * OPERAND_COUNTS[operation]
-    bounds.extend(row_bounds(operation, width))
-    if len(value) != 1 + len(bounds):
+    bounds = row_bounds(operation, width)
+    if len(value) != 1 + OPERAND_COUNTS[operation] + len(bounds):
         return False
-    return all([is_integer_within(item, low, high) for item, (low, high) in zip(value[1:], bounds)])
+    if not all([is_integer(operand) for operand in operands_of(value)]):
+        return False
+    return all([is_integer_within(number, low, high) for number, (low, high) in zip(numbers_of(value), bounds)])
+
+
+def are_values(numbers, many):
+    """Whether all of some integers are values, if there are so many values."""
+    return all([0 <= number < many for number in numbers])
+
+
+def is_row(value, width, many):
+    """Whether any value is a row, at a place with so many values before it."""
+    return is_row_form(value, width) and are_values(operands_of(value), many)
 
 
 def is_outs(value, many):

@@ -3,13 +3,10 @@
 from wordsalike.bounds import DEPTH, NODES, ROWS
 from wordsalike.errors import ParseError, TooDeep, TooLarge
 from wordsalike.expressions import NUMBER_BOUNDS
-from wordsalike.reading import is_digit, read_expression
+from wordsalike.reading import is_decimal, read_expression
 from wordsalike.rows import INPUTS, is_outs, is_row
 from wordsalike.signs import COMPARING_GROUP, LETTERS, PICK_GROUP, PREFIX_GROUP, PREFIXES, SIGNS
 from wordsalike.words import is_width
-
-# No integer in a text of a program has more digits.
-MOST_DIGITS = 20
 
 
 def _prefix_of(operation):
@@ -93,17 +90,10 @@ def format_program(width, program):
     return "".join(lines)
 
 
-def _is_decimal(text):
-    """Whether a text is an integer from 0 on as it is written in programs."""
-    if not 1 <= len(text) <= MOST_DIGITS or (text[0] == "0" and text != "0"):
-        return False
-    return all([is_digit(character) for character in text])
-
-
 def _items_of(line):
     """The tuple of the items of a line: a word, then integers. None if it has another form."""
     words = line.split(" ")
-    if not all([_is_decimal(word) for word in words[1:]]):
+    if not all([is_decimal(word) for word in words[1:]]):
         return None
     numbers = [int(word) for word in words[1:]]
     return (words[0], *numbers)
