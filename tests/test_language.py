@@ -212,6 +212,8 @@ class CodeTests(unittest.TestCase):
                 if isinstance(node, ast.Call) and isinstance(node.func, ast.Name) and node.func.id == "reversed":
                     self.assertIsInstance(node.args[0], ast.Call, path)
                     self.assertIn(node.args[0].func.id, ("list", "tuple", "sorted", "range"))
+                if isinstance(node, ast.Starred) and isinstance(node.value, ast.Call):
+                    self.assertNotIn(getattr(node.value.func, "id", ""), ("range", "zip", "enumerate", "reversed"), path)
                 if isinstance(node, ast.Raise):
                     self.assertIsInstance(node.exc, ast.Call, path)
                     self.assertIsInstance(node.exc.func, ast.Name, path)

@@ -293,6 +293,24 @@ class CompareTests(unittest.TestCase):
         kind = self.check(3, program_of(3, parse_expression(text)), ((("number", 0),), (4,)))
         self.assertEqual(kind, found[0])
 
+    def test_polynomials_in_each_name(self):
+        # The polynomial is 0 at 0, at 255 and at all powers of two, but not at 3.
+        zero = ((("number", 0),), (4,))
+        for name, letter in enumerate("abcd"):
+            text = " * ".join(f"({letter} - {2 ** k})" for k in range(8)) + f" * {letter} * ({letter} + 1)"
+            program = program_of(8, parse_expression(text))
+            for pair in ((program, zero), (zero, program)):
+                self.assertEqual(self.check(8, *pair), "input")
+                self.assertEqual(compare_programs(8, *pair)[1], tuple(3 * (at == name) for at in range(4)))
+
+    def test_one_of_two_is_no_polynomial(self):
+        # They differ at no special input, and nothing tells of another one.
+        zero = ((("number", 0),), (4,))
+        for text in ("a == 3", "c == 5", "(b == 6) * b", "(d / 3) * (d == 7)"):
+            program = program_of(8, parse_expression(text))
+            self.assertEqual(self.check(8, program, zero), "open")
+            self.assertEqual(self.check(8, zero, program), "open")
+
     def test_several_outs(self):
         one = ((("add", 0, 1), ("number", 3), ("mul", 5, 2)), (4, 6))
         other = ((("xor", 0, 1), ("and", 0, 1), ("left", 5, 1), ("add", 4, 6), ("left", 2, 2), ("sub", 8, 2)), (7, 9))

@@ -72,7 +72,7 @@ def _uses(program, base, forms, holders):
     The first row of the program is at base; holders tells which value holds a form.
     """
     rows, outs = program
-    own = [*range(INPUTS), *range(base, base + len(rows))]
+    own = list(range(INPUTS)) + list(range(base, base + len(rows)))
     known = {form: holders[form] for form in holders}
     steps = []
     for index, row in enumerate(rows):
@@ -96,7 +96,8 @@ def short_paper(width, program):
     classes, forms = _normal_forms(width, rows)
     holders = used_ranks(classes.members, [forms[out][0] for out in outs])
     inserted = list(short[0])
-    for at in _new_numbers(classes, forms, rows, holders):
+    new_numbers = _new_numbers(classes, forms, rows, holders)
+    for at in new_numbers:
         holders[at] = INPUTS + len(inserted)
         inserted.append(classes.members[at])
     base = INPUTS + len(inserted)

@@ -25,7 +25,9 @@ def _carry_sets(terms, number):
     found = [(0,)]
     for place in range(width - 1):
         totals = _totals(terms, number, place)
-        found.append(tuple(sorted(set([(carry + total) >> 1 for carry in found[place] for total in totals]))))
+        carries = found[place]
+        above = sorted(set([(carry + total) >> 1 for carry in carries for total in totals]))
+        found.append(tuple(above))
     return found
 
 
